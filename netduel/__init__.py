@@ -1,0 +1,1 @@
+"""A table on a net: two players, a house, clocks, and messages that are lost."""
