@@ -14,6 +14,7 @@ MOST_INCREMENT = 1000000
 MOST_LAG = 100000
 MOST_MS = 1000000000
 MOST_MOVE = 999
+MOST_ROUNDS = 10
 
 
 def within(number, least, most):
@@ -87,3 +88,46 @@ def double(table, number):
     if table.net.is_full():
         return [NET_IS_FULL]
     return [DONE, table.net.send(table.net.look(number))]
+
+
+def crash(table, side):
+    if not is_side(side):
+        return [OUT_OF_RANGE]
+    return [DONE, table.crash(side)]
+
+
+def restart(table):
+    table.restart()
+    return [DONE]
+
+
+def rounds(table, many):
+    if not within(many, 1, MOST_ROUNDS):
+        return [OUT_OF_RANGE]
+    for done in range(many):
+        table.go_round()
+    return [DONE]
+
+
+def show_net(table):
+    return [DONE] + table.net.told()
+
+
+def show_house(table):
+    house = table.house
+    now = table.time
+    runs = 1 if house.runs else 0
+    given = [DONE, now, house.result, runs, house.has_had(now), len(house.log), table.net.lost]
+    for seat in house.seats:
+        given.extend(seat.told())
+    return given
+
+
+def show_machine(table, side):
+    if not is_side(side):
+        return [OUT_OF_RANGE]
+    return [DONE] + table.machines[side].told()
+
+
+def show_log(table):
+    return [DONE] + table.house.log

@@ -1,6 +1,7 @@
 """The desk: takes a line of calls and gives back the line of their answers."""
 
-from netduel.calls import DONE, OUT_OF_RANGE, again, deliver, double, drop, new_table, nudge, press, tick
+from netduel.calls import DONE, OUT_OF_RANGE, again, crash, deliver, double, drop, new_table, nudge, press, restart
+from netduel.calls import rounds, show_house, show_log, show_machine, show_net, tick
 
 NOT_SET = -5
 
@@ -12,9 +13,14 @@ NUDGE = 4
 DELIVER = 5
 DROP = 6
 DOUBLE = 7
+CRASH = 8
+RESTART = 9
+ROUNDS = 10
+NET = 11
+HOUSE = 12
+MACHINE = 13
 
-# How many numbers stand behind each call's own, by that number; also of the calls 8 to 14,
-# which are refused like any other before the first set.
+# How many numbers stand behind each call's own, by that number.
 HOW_MANY = (4, 1, 2, 1, 0, 1, 1, 1, 1, 0, 1, 0, 0, 1, 0)
 
 
@@ -52,7 +58,20 @@ def ask(table, call, numbers):
         return drop(table, numbers[0])
     if call == DOUBLE:
         return double(table, numbers[0])
-    raise NotImplementedError(f"call {call} is not there yet")
+    if call == CRASH:
+        return crash(table, numbers[0])
+    if call == RESTART:
+        return restart(table)
+    if call == ROUNDS:
+        return rounds(table, numbers[0])
+    if call == NET:
+        return show_net(table)
+    if call == HOUSE:
+        return show_house(table)
+    if call == MACHINE:
+        return show_machine(table, numbers[0])
+    # Only the calls 0 to 14 are handed in: what is left is the log.
+    return show_log(table)
 
 
 def answers(calls):

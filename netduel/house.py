@@ -42,6 +42,14 @@ class House:
         if self.has_had(now) >= self.seats[side].bank + self.lag:
             self.lose_on_time(side)
 
+    def restart(self, now):
+        mover = self.seats[self.side_to_move()]
+        # As far as the bank reaches and no further: nobody loses by a crash of the house.
+        mover.pay(min(self.has_had(now), mover.bank))
+        self.runs = False
+        for seat in self.seats:
+            seat.here = False
+
     def tell(self, side, net):
         seat = self.seats[side]
         if not seat.here:

@@ -69,3 +69,10 @@ class Machine:
     def forget_request(self, handled):
         if self.request is not None and self.request.number <= handled:
             self.request = None
+
+    def told(self):
+        waits = 0 if self.request is None else 1
+        given = [self.epoch, 1 if self.on else 0, self.next_request, waits, self.learned]
+        given.extend([self.banks[0], self.banks[1], self.result])
+        given.extend(self.moves)
+        return given

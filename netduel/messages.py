@@ -1,4 +1,7 @@
-"""The messages that go over the net. None is changed once it is made, so one may be sent again as it is."""
+"""The messages that go over the net, each with its numbers as they are told.
+
+None is changed once it is made, so one may be sent again as it is.
+"""
 
 HELLO = 0
 REQUEST = 1
@@ -12,6 +15,9 @@ class Hello:
         self.side = side
         self.epoch = epoch
 
+    def told(self):
+        return [self.side, self.epoch]
+
 
 class Request:
     def __init__(self, side, epoch, number, ply, move, thought):
@@ -23,6 +29,9 @@ class Request:
         self.move = move
         self.thought = thought
 
+    def told(self):
+        return [self.side, self.epoch, self.number, self.ply, self.move, self.thought]
+
 
 class Ack:
     def __init__(self, side, epoch, known):
@@ -30,6 +39,9 @@ class Ack:
         self.side = side
         self.epoch = epoch
         self.known = known
+
+    def told(self):
+        return [self.side, self.epoch, self.known]
 
 
 class News:
@@ -42,3 +54,9 @@ class News:
         self.handled = handled
         self.banks = banks
         self.result = result
+
+    def told(self):
+        given = [self.side, self.epoch, self.place, len(self.moves)]
+        given.extend(self.moves)
+        given.extend([self.handled, self.banks[0], self.banks[1], self.result])
+        return given

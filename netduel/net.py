@@ -10,6 +10,9 @@ class Net:
         self.next_number = 1
         self.lost = 0
 
+    def is_empty(self):
+        return len(self.waiting) == 0
+
     def is_full(self):
         return len(self.waiting) >= MOST_MESSAGES
 
@@ -30,3 +33,13 @@ class Net:
 
     def take(self, number):
         return self.waiting.pop(number)
+
+    def take_oldest(self):
+        return self.take(list(self.waiting)[0])
+
+    def told(self):
+        given = []
+        for number, message in self.waiting.items():
+            given.extend([number, message.kind])
+            given.extend(message.told())
+        return given

@@ -18,3 +18,6 @@ class Seat:
     def pay(self, cost):
         self.bank -= cost
         self.spent += cost
+
+    def told(self):
+        return [self.epoch, self.handled, self.acked, 1 if self.here else 0, self.bank, self.spent]

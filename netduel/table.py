@@ -20,3 +20,19 @@ class Table:
             self.machines[message.side].take_news(message, self.time, self.net)
         else:
             self.house.arrive(message, self.time, self.net)
+
+    def crash(self, side):
+        epoch = self.machines[side].epoch + 1
+        self.machines[side] = Machine(side, epoch)
+        return epoch
+
+    def restart(self):
+        self.house.restart(self.time)
+
+    def go_round(self):
+        for machine in self.machines:
+            machine.timer(self.net)
+        self.house.tell_both(self.net)
+        # This ends: an ack is answered only where it raises what is acked, and nothing is answered to old epochs.
+        while not self.net.is_empty():
+            self.arrive(self.net.take_oldest())

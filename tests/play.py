@@ -2,15 +2,15 @@
 
 from netduel.desk import Desk, answers
 
-SET, TICK, PRESS, AGAIN, NUDGE, DELIVER, DROP, DOUBLE = range(8)
+SET, TICK, PRESS, AGAIN, NUDGE, DELIVER, DROP, DOUBLE, CRASH, RESTART, ROUNDS, NET, HOUSE, MACHINE, LOG = range(15)
 
 LEAST = -1000000000000000000
 MOST = 1000000000000000000
 
 # Each call with numbers that are fine once a table is set.
 EVERY_CALL_BUT_SET = (
-    (1, 0), (2, 0, 5), (3, 0), (4,), (5, 1), (6, 1), (7, 1),
-    (8, 0), (9,), (10, 1), (11,), (12,), (13, 0), (14,),
+    (TICK, 0), (PRESS, 0, 5), (AGAIN, 0), (NUDGE,), (DELIVER, 1), (DROP, 1), (DOUBLE, 1),
+    (CRASH, 0), (RESTART,), (ROUNDS, 1), (NET,), (HOUSE,), (MACHINE, 0), (LOG,),
 )
 
 # Both machines are on, the clock runs since 0, the net is empty, the next message is number 7.

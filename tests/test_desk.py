@@ -1,11 +1,10 @@
 """The line that is handed in, the line that is given back, and what holds of all calls."""
 
-import random
 import unittest
 
 from netduel.desk import answers
-from play import (AGAIN, DELIVER, DOUBLE, DROP, EVERY_CALL_BUT_SET, LEAST, MOST, NUDGE, OPENING, PRESS, SET, TICK, Play,
-                  last_reply, line, replies)
+from play import (AGAIN, CRASH, DELIVER, DOUBLE, DROP, EVERY_CALL_BUT_SET, HOUSE, LEAST, LOG, MACHINE, MOST, NET, NUDGE,
+                  OPENING, PRESS, RESTART, ROUNDS, SET, TICK, Play, last_reply, line, replies)
 
 GOOD_SET = (SET, 5000, 6000, 10, 20)
 BAD_SET = (SET, 0, 6000, 10, 20)
@@ -109,6 +108,18 @@ class SettingAgain(unittest.TestCase):
                         (TICK, 7), (PRESS, 0, 1), (DROP, 7), (AGAIN, 1), (DOUBLE, 1))
         self.assertEqual(given[9:], [[0, 100, 2], [0], [0], [0, 7, 0], [-3], [-2], [0], [0, 2]])
 
+    def test_a_later_set_behind_all_the_other_calls(self):
+        shows = ((HOUSE,), (NET,), (MACHINE, 0), (MACHINE, 1), (LOG,), (AGAIN, 1), (NET,))
+        trouble = ((ROUNDS, 1), (PRESS, 0, 5), (ROUNDS, 3), (CRASH, 0), (CRASH, 1), *[(AGAIN, 0)] * 66, (TICK, 40),
+                   (RESTART,))
+        given = replies((SET, 9000, 9000, 5, 5), *trouble, GOOD_SET, *shows)
+        self.assertEqual(given[-7:], [
+            [0, 0, 0, 0, 0, 0, 0, 0, 0, 0, 0, 5000, 0, 0, 0, 0, 0, 6000, 0], [0],
+            [0, 1, 0, 1, 0, 0, 0, 0, 0], [0, 1, 0, 1, 0, 0, 0, 0, 0], [0], [0], [0, 1, 0, 1, 1]])
+        # The increment and the lag are the new table's too.
+        moves = ((ROUNDS, 1), (PRESS, 0, 1), (TICK, 50), (ROUNDS, 1), (HOUSE,))
+        self.assertEqual(last_reply((SET, 9000, 9000, 5, 5), *trouble, GOOD_SET, *moves), last_reply(GOOD_SET, *moves))
+
     def test_a_refused_set_behind_a_good_one_changes_nothing(self):
         play = Play(5000, 6000, 10, 20)
         play.make_moves(1, 2)
@@ -142,7 +153,7 @@ class NewTable(unittest.TestCase):
 
 class Ranges(unittest.TestCase):
     def check(self, least, most, call):
-        """Each end is taken; what is beyond it, by 1 or as far as numbers go, is refused with -1 and changes nothing."""
+        """Each end is taken; what is beyond it, by 1 or as far as numbers go, is refused and changes nothing."""
         for number in (least, most):
             with self.subTest(number=number):
                 self.assertEqual(last_reply(GOOD_SET, *OPENING, call(number))[0], 0)
@@ -175,6 +186,15 @@ class Ranges(unittest.TestCase):
     def test_side_of_again(self):
         self.check(0, 1, lambda number: (AGAIN, number))
 
+    def test_side_of_crash(self):
+        self.check(0, 1, lambda number: (CRASH, number))
+
+    def test_side_of_machine(self):
+        self.check(0, 1, lambda number: (MACHINE, number))
+
+    def test_k_of_rounds(self):
+        self.check(1, 10, lambda number: (ROUNDS, number))
+
     def test_side_of_press(self):
         # Side 1 isn't to move: its end of the range shows by -3.
         self.assertEqual(last_reply(GOOD_SET, *OPENING, (PRESS, 0, 5)), [0, 1, 0])
@@ -198,7 +218,8 @@ class Ranges(unittest.TestCase):
 
 class NothingIsKept(unittest.TestCase):
     def test_what_is_handed_in_stays_as_it_was(self):
-        calls = line(GOOD_SET, *OPENING, (PRESS, 0, 5), (DELIVER, 7), (NUDGE,), (DROP, 8), (DOUBLE, 9), BAD_SET)
+        calls = line(GOOD_SET, *OPENING, (PRESS, 0, 5), (DELIVER, 7), (NUDGE,), (DROP, 8), (DOUBLE, 9), BAD_SET, (NET,),
+                     (HOUSE,), (CRASH, 0), (RESTART,), (ROUNDS, 2), (MACHINE, 0), (LOG,), (ROUNDS, 0))
         copy = list(calls)
         answers(calls)
         self.assertEqual(calls, copy)
@@ -217,67 +238,6 @@ class NothingIsKept(unittest.TestCase):
         given = answers([4])
         given.append(7)
         self.assertEqual(answers([4]), [1, -5])
-
-
-def random_call(source, play):
-    """A call that is mostly one that isn't refused."""
-    pick = source.random()
-    numbers = play.numbers() or [1]
-    if pick < 0.35:
-        return (DELIVER, source.choice(numbers))
-    if pick < 0.40:
-        return (DROP, source.choice(numbers))
-    if pick < 0.50:
-        return (DOUBLE, source.choice(numbers + [source.randrange(-2, 300)]))
-    if pick < 0.60:
-        return (TICK, source.choice([0, 1, 7, 40, 200, -1]))
-    if pick < 0.80:
-        return (PRESS, source.randrange(2), source.randrange(4))
-    if pick < 0.95:
-        return (AGAIN, source.choice([0, 0, 1, 1, 2]))
-    return (NUDGE,)
-
-
-class AtRandom(unittest.TestCase):
-    """What the document promises of every table, on lines that a seeded source makes."""
-
-    def check_table(self, play, bank, increment):
-        log = play.house.log
-        self.assertLessEqual(len(log), 60)
-        self.assertTrue(all(one != other for one, other in zip(log, log[1:])))
-        numbers = play.numbers()
-        self.assertLessEqual(len(numbers), 64)
-        self.assertEqual(numbers, sorted(numbers))
-        for side in (0, 1):
-            seat, machine = play.seat(side), play.machine(side)
-            self.assertEqual(machine.moves, log[:len(machine.moves)])
-            self.assertLessEqual(seat.acked, len(machine.moves))
-            self.assertLess(seat.handled, machine.next_request)
-            self.assertGreaterEqual(seat.bank, 0)
-            self.assertEqual(seat.bank + seat.spent, bank + increment * len(log[side::2]))
-            self.assertIn(machine.result, (0, play.house.result))
-        self.assertLessEqual(play.seat(0).spent + play.seat(1).spent, play.table.time)
-
-    def test_lines_at_random(self):
-        longest = 0
-        for seed in range(40):
-            source = random.Random(seed)
-            bank, increment, lag = source.choice([(900, 5, 30), (100000, 0, 0), (3000, 20, 100)])
-            play = Play(bank, bank, increment, lag, opened=False)
-            calls, given = [(SET, bank, bank, increment, lag)], [[0]]
-            while len(calls) < 400:
-                call = random_call(source, play)
-                before = play.state()
-                answer = play.ask(*call)
-                if answer[0] < 0:
-                    self.assertEqual(len(answer), 1)
-                    self.assertEqual(play.state(), before)
-                self.check_table(play, bank, increment)
-                calls.append(call)
-                given.append(answer)
-            self.assertEqual(replies(*calls), given)
-            longest = max(longest, len(play.house.log))
-        self.assertGreater(longest, 8)
 
 
 if __name__ == "__main__":

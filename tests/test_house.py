@@ -51,8 +51,8 @@ class HelloArrives(unittest.TestCase):
             self.assertEqual(play.state(), before)
 
     def test_hello_comes_twice(self):
-        given = replies((SET, 500, 500, 0, 0), (AGAIN, 0), (DOUBLE, 1), (DELIVER, 1), (DELIVER, 2), (DROP, 3), (DROP, 4),
-                        (DROP, 5))
+        given = replies((SET, 500, 500, 0, 0), (AGAIN, 0), (DOUBLE, 1), (DELIVER, 1), (DELIVER, 2), (DROP, 3),
+                        (DROP, 4), (DROP, 5))
         self.assertEqual(given[3:], [[0], [0], [0], [0], [-2]])
 
 
